@@ -513,6 +513,109 @@ func TestMulInfinite(t *testing.T) {
 	}
 }
 
+// turnBoth is a word with the signs of both parts turned.
+func turnBoth(w uint64) uint64 { return w ^ word(minus, minus) }
+
+// part holds one part of an answer, by its shift, against what is asked.
+func part(t *testing.T, what string, got uint64, shift int, want uint32) {
+	t.Helper()
+	if g := uint32(got >> shift); g != want {
+		t.Errorf("%s: %08x, not %08x", what, g, want)
+	}
+}
+
+// P4.2: sums about 2^128 - 2^103, from which on a part is infinite: there, and at
+// the next ones on both sides to which two parts come; of both signs, in each part.
+func TestSumsAboutInfinite(t *testing.T) {
+	for _, x := range []struct{ a, b, want uint32 }{
+		{greatest, 0x72ffffff, greatest}, // by 2^103 - 2^79 beyond the greatest
+		{greatest, 0x73000000, inf},      // by 2^103
+		{greatest, 0x73000001, inf},      // by 2^103 + 2^80
+		{greatest, least, greatest},
+		{greatest - 1, 0x73bfffff, greatest}, // the same from the greatest's neighbour
+		{greatest - 1, 0x73c00000, inf},
+		{greatest - 1, 0x73c00001, inf},
+		{greatest, 0x73800000, inf}, // 2^128
+		{greatest, greatest, inf},
+	} {
+		for _, s := range []uint32{0, minus} {
+			a, b, want := x.a^s, x.b^s, x.want^s
+			for _, p := range [][2]uint32{{a, b}, {b, a}} {
+				same(t, "Add, real", uint64(p[0]), uint64(p[1]), cplx.Add(word(p[0], one), word(p[1], 0)), word(want, one))
+				same(t, "Add, imaginary", uint64(p[0]), uint64(p[1]), cplx.Add(word(0, p[0]), word(one, p[1])), word(one, want))
+				same(t, "Add, both", uint64(p[0]), uint64(p[1]), cplx.Add(word(p[0], p[1]^minus), word(p[1], p[0]^minus)), word(want, want^minus))
+				same(t, "Sub, real", uint64(p[0]), uint64(p[1]), cplx.Sub(word(p[0], one), word(p[1]^minus, 0)), word(want, one))
+				same(t, "Sub, imaginary", uint64(p[0]), uint64(p[1]), cplx.Sub(word(one, p[0]), word(0, p[1]^minus)), word(one, want))
+				same(t, "Sub, both", uint64(p[0]), uint64(p[1]), cplx.Sub(word(p[0], p[1]^minus), word(p[1]^minus, p[0])), word(want, want^minus))
+			}
+		}
+	}
+}
+
+// P4.2: sums of products that are 2^128 - 2^103 and its neighbours of binary64, on
+// both sides, of both signs, in each part.
+func TestProductsAboutInfinite(t *testing.T) {
+	const edge = 0x1p128 - 0x1p103
+	for _, n := range []struct {
+		x, y float32 // by their product a sum is beyond the greatest
+		sum  float64
+		want uint32
+	}{
+		{0x3fffp60, 0x4001p15, math.Nextafter(edge, 0), greatest}, // 2^103 - 2^75
+		{0x1p60, 0x1p43, edge, inf},
+		{0x11p60, 0xf0f0f1p15, math.Nextafter(edge, math.Inf(1)), inf}, // 2^103 + 2^75
+		{0x1p60, 0x1p44, 0x1p128, inf},
+		{0x1p60, 0x1p15, math.MaxFloat32 + 0x1p75, greatest},
+		{0x1p60, -0x1p15, math.MaxFloat32 - 0x1p75, greatest},
+	} {
+		if sum := math.MaxFloat32 + float64(n.x)*float64(n.y); sum != n.sum {
+			t.Errorf("%x by %x: the sum is %x, not %x", n.x, n.y, sum, n.sum)
+		}
+		x, y := math.Float32bits(n.x), math.Float32bits(n.y)
+		a, re, im := word(greatest, x), word(one, y^minus), word(y, one)
+		part(t, "Mul, real", cplx.Mul(a, re), 0, n.want)
+		part(t, "Mul, real", cplx.Mul(re, a), 0, n.want)
+		part(t, "Mul, real, below nought", cplx.Mul(turnBoth(a), re), 0, n.want^minus)
+		part(t, "Mul, real, below nought", cplx.Mul(a, turnBoth(re)), 0, n.want^minus)
+		part(t, "Mul, imaginary", cplx.Mul(a, im), 32, n.want)
+		part(t, "Mul, imaginary", cplx.Mul(im, a), 32, n.want)
+		part(t, "Mul, imaginary, below nought", cplx.Mul(turnBoth(a), im), 32, n.want^minus)
+		part(t, "Mul, imaginary, below nought", cplx.Mul(a, turnBoth(im)), 32, n.want^minus)
+		for _, b := range []uint64{re, im, turnBoth(re), turnBoth(im)} {
+			pair(t, a, b)
+			pair(t, b, a)
+		}
+	}
+}
+
+// P4.2: norms about 2^128 - 2^103: the next ones on both sides to which two
+// squares come (none comes to it), by parts of both signs.
+func TestNormsAboutInfinite(t *testing.T) {
+	const edge, place = 0x1p128 - 0x1p103, 0x1p75 // place: binary64's last one there
+	for _, x := range []struct {
+		re, im uint32
+		sum    float64
+		want   uint32
+	}{
+		{0x5f7ffffe, 0x59ef7750, edge - 2*place, greatest},
+		{0x5f7fde74, 0x5d0309df, edge + 8*place, inf},
+		{0x5f7fffff, 0, 0x1p128 - 0x1p105 + 0x1p80, 0x7f7ffffe},
+		{0x5f800000, 0, 0x1p128, inf},
+		{greatest, greatest, 2 * math.MaxFloat32 * math.MaxFloat32, inf},
+	} {
+		re, im := float64(math.Float32frombits(x.re)), float64(math.Float32frombits(x.im))
+		if sum := re*re + im*im; sum != x.sum {
+			t.Errorf("norm of %08x and %08x: the sum is %x, not %x", x.re, x.im, sum, x.sum)
+		}
+		for _, s := range []uint64{0, word(minus, 0), word(0, minus), word(minus, minus)} {
+			a, b := word(x.re, x.im)^s, word(x.im, x.re)^s
+			same(t, "Norm", a, 0, cplx.Norm(a), word(x.want, 0))
+			same(t, "Norm", b, 0, cplx.Norm(b), word(x.want, 0))
+			same(t, "Norm", a, 0, cplx.Norm(a), form.norm(a))
+		}
+	}
+}
+
 // P4.2: Norm passes the greatest number, falls below the least, and is NaN
 // beside an infinity too; its imaginary part is 0 always.
 func TestNormEdges(t *testing.T) {
